@@ -45,7 +45,7 @@ func byHand(t *testing.T, h *heap.Heap, number func(int) int, items []api.Item, 
 func TestCallsOfRightTreesThatWerePutByHand(t *testing.T) {
 	t.Parallel()
 	number := numbers(11)
-	for round := range 400 {
+	for round := range 240 {
 		h, d := made(t, 4096)
 		levels := []int{1, 2, 3, 4, 8, 20, 39, 40}[round%8]
 		items := some(1+number([]int{3, 8, 40}[number(3)]), 5, number(50))
@@ -57,12 +57,19 @@ func TestCallsOfRightTreesThatWerePutByHand(t *testing.T) {
 			t.Fatal("P8.1: Check of a right tree by hand", e)
 		}
 		for range 12 {
+			room, wasMany := h.Room(), root != 0 && levelsOf(t, h, root) > len(want) && len(surveyOf(t, h, root, 1).places) > 90
 			next, now := handChange(t, h, number, root, want)
-			if next != root {
-				has(t, "made of a tree by hand", h, next, now)
+			hasItems(t, "made of a tree by hand", h, next, now)
+			if levels := levelsOf(t, h, next); next != root && levels > len(now) && !wasMany { // of many blocks that were too high before Diff would read too many
+				t.Fatal("P8.4: made of a tree by hand:", levels, "levels,", len(now), "items")
+			}
+			if taken := room - h.Room(); taken > 64 {
+				t.Fatal("P8.4: made of a tree by hand: sectors taken:", taken)
 			}
 			heldBy(t, "P8.1: made of a tree by hand", h, d, root, next)
-			differs(t, "made of a tree by hand", h, root, next, want, now)
+			if read := differs(t, "made of a tree by hand", h, root, next, want, now); read > 128 {
+				t.Fatal("P8.3: made of a tree by hand: blocks read:", read)
+			}
 			ranges(t, h, next, now, digits(number(50), 4), digits(number(50), 4), 5)
 			drops(t, h, root)
 			root, want = next, now

@@ -122,8 +122,8 @@ func plainDiff(a, b map[string]string) []api.Change {
 	return list
 }
 
-// has asks whether a tree is right, and has these items and no more levels than it may.
-func has(t *testing.T, what string, h *heap.Heap, root int, want map[string]string) {
+// hasItems asks whether a tree is right, and has these items.
+func hasItems(t *testing.T, what string, h *heap.Heap, root int, want map[string]string) {
 	t.Helper()
 	if e := tree.Check(h, root); e != api.OK {
 		t.Fatalf("P8.1: %s: Check of a tree that is to be right: error %d", what, e)
@@ -141,8 +141,14 @@ func has(t *testing.T, what string, h *heap.Heap, root int, want map[string]stri
 	if !s.isRight() {
 		t.Fatalf("P8.1: %s: a tree that isn't right", what)
 	}
-	if s.levels[0] > len(want) {
-		t.Fatalf("P8.4: %s: %d levels, %d items", what, s.levels[0], len(want))
+}
+
+// has asks the same, and whether it has no more levels than items.
+func has(t *testing.T, what string, h *heap.Heap, root int, want map[string]string) {
+	t.Helper()
+	hasItems(t, what, h, root, want)
+	if levels := levelsOf(t, h, root); levels > len(want) {
+		t.Fatalf("P8.4: %s: %d levels, %d items", what, levels, len(want))
 	}
 }
 
