@@ -270,6 +270,31 @@ func TestTallTreesPutByHandKeepThePromises(t *testing.T) {
 	}
 }
 
+func TestATallTreeWhereFewerSectorsAreFree(t *testing.T) {
+	t.Parallel()
+	h, d := made(t, 4096)
+	n := nurseryOn(t, h, 160, alike(270))
+	root := n.way(40, plot{upTo(40, 3, 0), evenly(1, 0), 1, 2}).Place
+	for free := 63; free >= 0; free-- {
+		fill(t, h, free)
+		was := counts(h, d)
+		for _, c := range changesAt("the way's key", n.mark) {
+			next, e := c.call(h, root)
+			if e == api.OK {
+				drops(t, h, next)
+			} else {
+				refuses(t, "P8.4: "+c.what, next, e, api.ErrNoSpace)
+			}
+			if free < 39 && e == api.OK {
+				t.Errorf("the test itself is wrong: %s took %d sectors", c.what, free)
+			}
+			if !slices.Equal(counts(h, d), was) {
+				t.Fatalf("P8.1: %s with %d sectors free: something has changed", c.what, free)
+			}
+		}
+	}
+}
+
 func TestManyChangesOfATallTree(t *testing.T) {
 	for _, height := range []int{20, 33, 40} {
 		t.Run(digits(height, 1), func(t *testing.T) {
